@@ -1,0 +1,1 @@
+"""Hindcost: what a policy loses because it does not know the future."""

@@ -1,0 +1,1 @@
+"""Schedules for a sequence, and the optimum in hindsight."""

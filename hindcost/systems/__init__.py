@@ -1,0 +1,1 @@
+"""Systems: states, switching costs and requests."""

@@ -1,0 +1,1 @@
+"""Work functions and their forms."""

@@ -1,0 +1,72 @@
+"""The names, the places and the parameters of the interface."""
+
+import importlib
+import inspect
+import unittest
+
+# Each module with its constants and its functions with their parameters.
+INTERFACE = {
+    "hindcost.systems.systems": (
+        {"MAX_STATES": 10, "MAX_REQUESTS": 8, "MAX_COST": 1000, "MAX_LENGTH": 400},
+        {
+            "is_system": "value",
+            "state_count": "system",
+            "request_count": "system",
+            "switching_cost": "system, first, second",
+            "request_cost": "system, request, state",
+            "allowed_states": "system, request",
+            "is_sequence": "system, value",
+            "switching_from_steps": "size, steps",
+        },
+    ),
+    "hindcost.schedules.schedules": (
+        {},
+        {
+            "is_schedule": "system, sequence, value",
+            "schedule_cost": "system, sequence, schedule",
+            "optimum": "system, sequence",
+            "best_schedule": "system, sequence",
+            "best_schedule_count": "system, sequence",
+            "prefix_optima": "system, sequence",
+        },
+    ),
+    "hindcost.work.functions": (
+        {},
+        {
+            "is_work": "system, value",
+            "first_work": "system",
+            "next_work": "system, work, request",
+            "work_after": "system, sequence",
+            "form_of": "system, work",
+        },
+    ),
+}
+
+
+class TestInterface(unittest.TestCase):
+    def test_constants(self):
+        for path, (constants, _) in INTERFACE.items():
+            module = importlib.import_module(path)
+            for name, value in constants.items():
+                with self.subTest(module=path, name=name):
+                    self.assertEqual(getattr(module, name), value)
+                    self.assertIs(type(getattr(module, name)), int)
+
+    def test_functions_stand_in_their_modules(self):
+        for path, (_, functions) in INTERFACE.items():
+            module = importlib.import_module(path)
+            for name in functions:
+                with self.subTest(module=path, name=name):
+                    self.assertTrue(inspect.isfunction(getattr(module, name)))
+                    self.assertEqual(getattr(module, name).__module__, path)
+
+    def test_parameters(self):
+        for path, (_, functions) in INTERFACE.items():
+            module = importlib.import_module(path)
+            for name, parameters in functions.items():
+                with self.subTest(module=path, name=name):
+                    self.assertEqual(str(inspect.signature(getattr(module, name))), f"({parameters})")
+
+
+if __name__ == "__main__":
+    unittest.main()
