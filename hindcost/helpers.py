@@ -1,4 +1,6 @@
-"""What all modules need: tests of plain values."""
+"""What all modules need: tests of plain values, and breadth-first searches."""
+
+from hindcost.errors import TooLarge
 
 
 def is_integer(value):
@@ -15,3 +17,37 @@ def is_integer_from(value, least, greatest):
 def is_tuple_of(value, size):
     """Return whether the value is a tuple with this many entries."""
     return isinstance(value, tuple) and len(value) == size
+
+
+def search_ways(starts, steps, follow, limit):
+    """Return a dict from each node, in the order of the search, to the node before it and the step from there.
+
+    The nodes are the starts, which have None, and all that steps from 0 to steps - 1 lead to. If there are more
+    than the limit, TooLarge is raised.
+    """
+    # Steps are taken in ascending order, so the way that finds a node is the smallest of the shortest ways to it.
+    found = list(starts)
+    ways = {start: None for start in found}
+    done = 0
+    while done < len(found):
+        node = found[done]
+        done += 1
+        for step in range(steps):
+            following = follow(node, step)
+            if following not in ways:
+                if len(found) == limit:
+                    raise TooLarge(limit)
+                ways[following] = (node, step)
+                found.append(following)
+    return ways
+
+
+def way_to(ways, node):
+    """Return the start from which the search came to the node, and the tuple of the steps."""
+    backward = []
+    way = ways[node]
+    while way is not None:
+        node, step = way
+        backward.append(step)
+        way = ways[node]
+    return node, tuple(backward[::-1])

@@ -5,13 +5,14 @@ import itertools
 import unittest
 
 from hindcost.errors import (
-    InvalidNumber, InvalidSchedule, InvalidSequence, InvalidSteps, InvalidSystem, InvalidWork, UnknownRequest,
-    UnknownState,
+    InvalidNumber, InvalidPolicy, InvalidSchedule, InvalidSequence, InvalidSteps, InvalidSystem, InvalidWork,
+    UnknownRequest, UnknownState,
 )
+from hindcost.policies import policies, reduced, runs
 from hindcost.schedules import schedules
 from hindcost.systems import systems
-from hindcost.work import functions
-from tests.helpers import A, ODD, assert_error
+from hindcost.work import forms, functions
+from tests.helpers import A, MOVE, ODD, STAY, assert_error
 
 # The error of each parameter, with the attribute that keeps the value; None where no error is named.
 ERRORS = {
@@ -23,6 +24,12 @@ ERRORS = {
     "sequence": (InvalidSequence, None),
     "schedule": (InvalidSchedule, None),
     "work": (InvalidWork, None),
+    "form": (InvalidWork, None),
+    "lookahead": (InvalidNumber, "value"),
+    "policy": (InvalidPolicy, None),
+    "second policy": (InvalidPolicy, None),
+    "memory": (InvalidNumber, "value"),
+    "window": (InvalidSequence, None),
     "size": (InvalidNumber, "value"),
     "steps": (InvalidSteps, None),
     "value": None,
@@ -49,6 +56,18 @@ CALLS = (
     (functions.next_work, ("system", "work", "request"), (A, (0, 1), 1)),
     (functions.work_after, ("system", "sequence"), (A, (0, 1))),
     (functions.form_of, ("system", "work"), (A, (2, 1))),
+    (forms.is_form, ("system", "value"), (A, (0, 1))),
+    (forms.next_form, ("system", "form", "request"), (A, (0, 1), 1)),
+    (forms.reachable_forms, ("system",), (A,)),
+    (forms.sequence_to_form, ("system", "form"), (A, (1, 0))),
+    (policies.windows, ("system", "lookahead"), (A, 1)),
+    (policies.is_policy, ("system", "value"), (A, MOVE)),
+    (policies.next_memory, ("system", "policy", "memory", "window"), (A, MOVE, 0, (1,))),
+    (runs.run_memories, ("system", "policy", "sequence"), (A, MOVE, (0, 1))),
+    (runs.run_schedule, ("system", "policy", "sequence"), (A, MOVE, (0, 1))),
+    (runs.run_cost, ("system", "policy", "sequence"), (A, MOVE, (0, 1))),
+    (reduced.reduced_policy, ("system", "policy"), (A, MOVE)),
+    (reduced.different_run, ("system", "policy", "second policy"), (A, MOVE, STAY)),
 )
 
 

@@ -40,6 +40,38 @@ INTERFACE = {
             "form_of": "system, work",
         },
     ),
+    "hindcost.work.forms": (
+        {"MAX_FORMS": 1000},
+        {
+            "is_form": "system, value",
+            "next_form": "system, form, request",
+            "reachable_forms": "system",
+            "sequence_to_form": "system, form",
+        },
+    ),
+    "hindcost.policies.policies": (
+        {"MAX_LOOKAHEAD": 2, "MAX_MEMORIES": 1000, "MAX_MOVES": 20000},
+        {
+            "windows": "system, lookahead",
+            "is_policy": "system, value",
+            "next_memory": "system, policy, memory, window",
+        },
+    ),
+    "hindcost.policies.runs": (
+        {},
+        {
+            "run_memories": "system, policy, sequence",
+            "run_schedule": "system, policy, sequence",
+            "run_cost": "system, policy, sequence",
+        },
+    ),
+    "hindcost.policies.reduced": (
+        {},
+        {
+            "reduced_policy": "system, policy",
+            "different_run": "system, first, second",
+        },
+    ),
 }
 
 

@@ -1,0 +1,1 @@
+"""Policies, their runs and their reduced forms."""
