@@ -42,6 +42,28 @@ def search_ways(starts, steps, follow, limit):
     return ways
 
 
+def explore(starts, edges_from, limit):
+    """Return the list of all nodes that edges lead to from the starts, and for each node the list of its edges.
+
+    The nodes are in the order of a breadth-first search. An edge is a tuple that begins with the node that it leads
+    to; in the result it begins with the number of this node. If there are more nodes than the limit, TooLarge is
+    raised.
+    """
+    found = list(starts)
+    numbers = {start: number for number, start in enumerate(found)}
+    rows = []
+    while len(rows) < len(found):
+        edges = edges_from(found[len(rows)])
+        for edge in edges:
+            if edge[0] not in numbers:
+                if len(found) == limit:
+                    raise TooLarge(limit)
+                numbers[edge[0]] = len(found)
+                found.append(edge[0])
+        rows.append([(numbers[edge[0]],) + edge[1:] for edge in edges])
+    return found, rows
+
+
 def way_to(ways, node):
     """Return the start from which the search came to the node, and the tuple of the steps."""
     backward = []

@@ -21,6 +21,23 @@ def nested(depth):
     return value
 
 
+# One request in two states, where all that a policy does is free, and two requests, and eight.
+ONE = (((0, 1), (1, 0)), ((0, 0),), 0)
+TWO = (((0, 1), (1, 0)), ((0, 0), (0, 0)), 0)
+EIGHT = (((0, 1), (1, 0)), ((0, 0),) * 8, 0)
+
+
+def slide(up, down):
+    """A system whose one request leads from (0, up) step by step to (down, 0): up + down + 1 forms."""
+    return (((0, up), (down, 0)), ((1, 0),), 0)
+
+
+def turning(length, lookahead, requests):
+    """A policy with a ring of memories that all have state 0: each window leads from one to the next."""
+    row = window_count(requests, lookahead)
+    return (lookahead, (0,) * length, tuple(((m + 1) % length,) * row for m in range(length)), 0)
+
+
 # No value here is a small integer, so none is a state, a request, a memory, a look-ahead or a size.
 ODD = (
     None, True, False, "", "0", "((0, 1), (1, 0))", (), [], {}, [0], {0: 1}, {"start": 0}, (True,), (None,), ("0",),

@@ -6,14 +6,11 @@ from hindcost.errors import InvalidSystem, InvalidWork, TooLarge, UnknownRequest
 from hindcost.work import forms
 from hindcost.work.forms import is_form, next_form, reachable_forms, sequence_to_form
 from hindcost.work.functions import first_work, form_of, is_work, next_work
-from tests.helpers import A, ODD, T, UNEVEN, assert_error, product_of, random_systems, replacements, work_by_hand
+from tests.helpers import (
+    A, ODD, T, UNEVEN, assert_error, product_of, random_systems, replacements, slide, work_by_hand,
+)
 
 SYSTEMS = [A, T, UNEVEN] + random_systems(8, 25)
-
-
-def slide(up, down):
-    """A system whose one request leads from (0, up) step by step to (down, 0): up + down + 1 forms."""
-    return (((0, up), (down, 0)), ((1, 0),), 0)
 
 
 def slope(difference):

@@ -72,6 +72,49 @@ INTERFACE = {
             "different_run": "system, first, second",
         },
     ),
+    "hindcost.ratios.positions": (
+        {"MAX_POSITIONS": 1000},
+        {
+            "first_positions": "system, policy, *, offline=None, form=None",
+            "is_position": "system, policy, value, *, offline=None",
+            "arrive": "system, policy, position, request, *, offline=None",
+            "finish": "system, policy, position, *, offline=None",
+            "position_after": "system, policy, sequence, *, offline=None, form=None",
+            "reachable_positions": "system, policy, *, offline=None, form=None",
+        },
+    ),
+    "hindcost.ratios.fractions": (
+        {"INFINITE": (1, 0)},
+        {
+            "is_ratio": "value",
+            "make_fraction": "numerator, denominator",
+            "compare_ratios": "first, second",
+        },
+    ),
+    "hindcost.ratios.ratios": (
+        {},
+        {
+            "ratio_of": "system, policy, *, offline=None, form=None",
+            "ratio_certificate": "system, policy, *, offline=None, form=None",
+        },
+    ),
+    "hindcost.ratios.certificates": (
+        {},
+        {
+            "is_potential": "system, policy, ratio, value, *, offline=None, form=None",
+            "is_trap": "system, policy, ratio, value, *, offline=None, form=None",
+            "is_ratio_certificate": "system, policy, value, *, offline=None, form=None",
+        },
+    ),
+    "hindcost.ratios.surcharges": (
+        {},
+        {
+            "surplus_of": "system, policy, ratio, sequence, *, offline=None, form=None",
+            "surcharge_of": "system, policy, ratio, *, offline=None, form=None",
+            "surcharge_certificate": "system, policy, ratio, *, offline=None, form=None",
+            "is_surcharge_certificate": "system, policy, ratio, value, *, offline=None, form=None",
+        },
+    ),
 }
 
 
@@ -82,7 +125,7 @@ class TestInterface(unittest.TestCase):
             for name, value in constants.items():
                 with self.subTest(module=path, name=name):
                     self.assertEqual(getattr(module, name), value)
-                    self.assertIs(type(getattr(module, name)), int)
+                    self.assertIs(type(getattr(module, name)), type(value))
 
     def test_functions_stand_in_their_modules(self):
         for path, (_, functions) in INTERFACE.items():

@@ -14,12 +14,13 @@ NODES = (
     "Module Expr FunctionDef ClassDef arguments arg Return Assign AugAssign If While For Raise Break Continue Pass "
     "ImportFrom alias Name Load Store Constant Tuple List Dict Call keyword Attribute Subscript Slice Lambda "
     "BinOp Add Sub Mult FloorDiv Mod UnaryOp USub Not BoolOp And Or Compare Eq NotEq Lt LtE Gt GtE Is IsNot In NotIn "
-    "IfExp ListComp DictComp comprehension"
+    "IfExp ListComp DictComp comprehension Try ExceptHandler"
 ).split()
 BUILTINS = (
     "len range enumerate zip min max sum abs sorted reversed int str bool list tuple dict set isinstance repr any all "
     "divmod ValueError KeyError IndexError LookupError ArithmeticError OverflowError RuntimeError NotImplemented"
 ).split()
+LIBRARY = {"math": ["gcd"], "heapq": ["heappop", "heappush"]}
 BARRED_NAMES = (
     "register mro elements open input law version_info with_traceback add_note attrgetter breakpoint builtins compile "
     "copyright credits delattr dir eval exec exit gc getattr globals hasattr help id importlib license locals "
@@ -129,6 +130,11 @@ class TestNames(unittest.TestCase):
             self.assertEqual(places, list(range(1, len(places) + 1)), path)
             for at in places:
                 source = importlib.import_module(body[at].module)
+                if body[at].module in LIBRARY:
+                    for name in body[at].names:
+                        self.assertIsNone(name.asname, path)
+                        self.assertIn(name.name, LIBRARY[body[at].module], path)
+                    continue
                 self.assertTrue(body[at].module.startswith("hindcost.") and body[at].level == 0, path)
                 for name in body[at].names:
                     self.assertIsNone(name.asname, path)
@@ -170,6 +176,33 @@ class TestNames(unittest.TestCase):
                 self.assertNotIn(name, BARRED_NAMES, path)
             for name in bound_names(tree):
                 self.assertNotIn(name, classes, path)
+
+    def test_names_of_the_library_are_only_called(self):
+        names = {name for known in LIBRARY.values() for name in known}
+        for path in FILES:
+            tree = tree_of(path)
+            called = {id(node.func) for node in ast.walk(tree) if isinstance(node, ast.Call) and not node.keywords}
+            for node in ast.walk(tree):
+                if isinstance(node, ast.Name) and node.id in names:
+                    self.assertIn(id(node), called, (path, node.lineno))
+
+    def test_only_own_errors_are_caught(self):
+        for path in FILES:
+            for node in ast.walk(tree_of(path)):
+                if isinstance(node, ast.ExceptHandler):
+                    self.assertIsInstance(node.type, ast.Name, (path, node.lineno))
+                    self.assertFalse(node.type.id in vars(builtins), (path, node.lineno))
+
+    def test_exponents_are_literal(self):
+        for path in FILES:
+            for node in ast.walk(tree_of(path)):
+                self.assertFalse(isinstance(node, ast.Pow), path)
+
+    def test_ranges_beside_a_key_are_lists(self):
+        for path in FILES:
+            for node in ast.walk(tree_of(path)):
+                if isinstance(node, ast.Call) and getattr(node.func, "id", "") in ("min", "max") and node.keywords:
+                    self.assertNotIn(getattr(getattr(node.args[0], "func", None), "id", ""), ("range", "zip", "map"))
 
     def test_builtins(self):
         for path in FILES:

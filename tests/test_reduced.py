@@ -9,12 +9,9 @@ from hindcost.policies.policies import is_policy
 from hindcost.policies.reduced import different_run, reduced_policy
 from hindcost.policies.runs import run_schedule
 from tests.helpers import (
-    A, MOVE, ODD, STAY, assert_error, product_of, random_policy, random_system, random_systems, window_count,
+    A, EIGHT, MOVE, ODD, ONE, STAY, TWO, assert_error, product_of, random_policy, random_system, random_systems,
+    turning, window_count,
 )
-
-# One request, and one window without look-ahead: a policy is a chain of memories that ends in a ring.
-ONE = (((0, 1), (1, 0)), ((0, 0),), 0)
-TWO = (((0, 1), (1, 0)), ((0, 0), (0, 0)), 0)
 
 
 def chain(states):
@@ -297,19 +294,14 @@ class TestDifferentRun(unittest.TestCase):
         assert_error(self, TooLarge, ("limit", 1000), different_run, ONE, ring(7), changed(143))
 
     def test_number_of_triples_with_lookahead(self):
-        def turning(length, lookahead, requests):
-            row = window_count(requests, lookahead)
-            return (lookahead, (0,) * length, tuple(((m + 1) % length,) * row for m in range(length)), 0)
-
         # Each pair of memories occurs with all tuples of known requests: 2 or 4 triples for each pair.
         for lookahead, fits, more in ((1, 500, 501), (2, 250, 251)):
             still = turning(1, lookahead, 2)
             self.assertIsNone(different_run(TWO, turning(fits, lookahead, 2), still))
             assert_error(self, TooLarge, ("limit", 1000), different_run, TWO, turning(more, lookahead, 2), still)
         # 64 triples for each pair: 15 pairs are 960, 16 pairs are 1024.
-        eight = (ONE[0], ((0, 0),) * 8, 0)
-        self.assertIsNone(different_run(eight, turning(3, 2, 8), turning(5, 2, 8)))
-        assert_error(self, TooLarge, ("limit", 1000), different_run, eight, turning(16, 2, 8), turning(2, 2, 8))
+        self.assertIsNone(different_run(EIGHT, turning(3, 2, 8), turning(5, 2, 8)))
+        assert_error(self, TooLarge, ("limit", 1000), different_run, EIGHT, turning(16, 2, 8), turning(2, 2, 8))
 
     def test_triples_with_too_few_requests_left_do_not_count(self):
         # Full windows lead to 900 pairs of memories, a last window from each of them to one more.

@@ -107,3 +107,11 @@ def check_policy(system, policy):
     """Raise InvalidPolicy if the value is not a policy of the system."""
     if not fits_policy(system, policy):
         raise InvalidPolicy("not a policy of the system")
+
+
+def check_two_policies(system, first, second):
+    """Raise InvalidPolicy if one of the values is not a policy of the system, or if their look-aheads differ."""
+    check_policy(system, first)
+    check_policy(system, second)
+    if first[0] != second[0]:
+        raise InvalidPolicy("not a policy with the look-ahead of the first one")

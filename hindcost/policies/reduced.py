@@ -1,8 +1,9 @@
 """Reduced policies, and request tuples on which two policies differ."""
 
-from hindcost.errors import InvalidPolicy
 from hindcost.helpers import search_ways, way_to
-from hindcost.policies.policies import check_policy, tuples_of_length, window_number, windows_up_to
+from hindcost.policies.policies import (
+    check_policy, check_two_policies, tuples_of_length, window_number, windows_up_to
+)
 from hindcost.systems.systems import check_system
 
 MAX_TRIPLES = 1000
@@ -28,10 +29,7 @@ def reduced_policy(system, policy):
 def different_run(system, first, second):
     """Return the smallest of the shortest request tuples on which the schedules differ, or None."""
     check_system(system)
-    check_policy(system, first)
-    check_policy(system, second)
-    if first[0] != second[0]:
-        raise InvalidPolicy("not a policy with the look-ahead of the first one")
+    check_two_policies(system, first, second)
     requests = len(system[1])
     ways = ways_to_triples(requests, first, second)
     # Request tuples with fewer requests than the look-ahead lead to no triple.

@@ -1,0 +1,1 @@
+"""Positions, ratios and surcharges of a policy."""
