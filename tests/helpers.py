@@ -27,9 +27,18 @@ TWO = (((0, 1), (1, 0)), ((0, 0), (0, 0)), 0)
 EIGHT = (((0, 1), (1, 0)), ((0, 0),) * 8, 0)
 
 
+def slides(up, down, requests):
+    """A system whose requests all lead from (0, up) step by step to (down, 0): up + down + 1 forms."""
+    return (((0, up), (down, 0)), ((1, 0),) * requests, 0)
+
+
 def slide(up, down):
-    """A system whose one request leads from (0, up) step by step to (down, 0): up + down + 1 forms."""
-    return (((0, up), (down, 0)), ((1, 0),), 0)
+    return slides(up, down, 1)
+
+
+def only_one(requests):
+    """A system in which all requests are allowed in state 1 alone, so there is one move at each game position."""
+    return (ONE[0], ((None, 0),) * requests, 0)
 
 
 def turning(length, lookahead, requests):
@@ -119,6 +128,27 @@ def random_policy(rng, system, lookahead, memories):
     fitting = [[m for m, s in enumerate(states) if row[s] is not None] for row in table]
     moves = tuple(tuple(rng.choice(fitting[head]) for head in heads) for _ in states)
     return (lookahead, tuple(states), moves, states.index(start))
+
+
+def split_policy(rng, policy):
+    """The same policy with each memory twice: moves lead to either one, and the memories are mixed."""
+    lookahead, states, moves, first = policy
+    count = len(states)
+    order = list(range(2 * count))
+    rng.shuffle(order)
+    place = {old: new for new, old in enumerate(order)}
+    rows = [tuple(place[target + count * rng.randrange(2)] for target in moves[old % count]) for old in order]
+    return (lookahead, tuple(states[old % count] for old in order), tuple(rows), place[first])
+
+
+def renumbered(rng, policy):
+    """The same policy with its memories in another order."""
+    lookahead, states, moves, first = policy
+    order = list(range(len(states)))
+    rng.shuffle(order)
+    place = {old: new for new, old in enumerate(order)}
+    rows = tuple(tuple(place[target] for target in moves[old]) for old in order)
+    return (lookahead, tuple(states[old] for old in order), rows, place[first])
 
 
 def cost_by_hand(system, sequence, schedule):

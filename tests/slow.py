@@ -286,3 +286,62 @@ def random_cases(seed, count, lookaheads=(0, 1, 2), memories=(2, 3, 5)):
         base = system if offline is None else offline
         form = rng.choice(list(all_forms(base, 3))) if at // 6 % 2 else None
         yield system, policy, offline, form
+
+
+def table_holds(game, first, ratio, value):
+    """[9.5], for a tuple of at least one entry of a game position, a request and two integers."""
+    if ratio == (0, 1):
+        return False
+    places = [entry[0] for entry in value]
+    entries = {entry[0]: entry for entry in value}
+    if any(one >= two for one, two in zip(places, places[1:])) or not set(places) <= set(game):
+        return False
+    if not set(places) & set(first):
+        return False
+    for place, request, number, level in value:
+        for target, cost, increase in game[place][request]:
+            if target not in entries:
+                return False
+            _, _, next_number, next_level = entries[target]
+            if ratio == (1, 0):
+                kept = next_level <= level
+                if increase > 0:
+                    kept = kept and next_level < level
+                if increase == 0 and cost == 0 and next_level == level:
+                    kept = kept and next_number < number
+            else:
+                p, q = ratio
+                kept = q * cost + next_number >= p * increase + number
+                if cost == 0 and increase == 0:
+                    kept = kept and next_level < level
+            if not kept:
+                return False
+    return True
+
+
+def table_by_hand(game, ratio, plan):
+    """An adversary table with these requests for a fraction, if they force it; `plan` is closed under all moves."""
+    p, q = ratio
+    numbers = dict.fromkeys(plan, 0)
+    levels = dict.fromkeys(plan, 0)
+    for _ in range(2 * len(plan) + 2):
+        for place, request in plan.items():
+            for target, cost, increase in game[place][request]:
+                numbers[place] = min(numbers[place], q * cost - p * increase + numbers[target])
+                if cost == 0 and increase == 0:
+                    levels[place] = max(levels[place], levels[target] + 1)
+    return tuple((place, plan[place], numbers[place], levels[place]) for place in sorted(plan))
+
+
+def random_games(seed, count, lookaheads=(0, 1, 2), sizes=(2, 2, 3)):
+    """Systems with an offline system or None and a look-ahead; those with too many game positions are left out."""
+    rng = random.Random(seed)
+    found = 0
+    while found < count:
+        lookahead = lookaheads[found % len(lookaheads)]
+        requests = rng.choice((1, 2)) if lookahead == 2 else rng.choice((1, 2, 3))
+        system = random_system(rng, rng.choice(sizes), requests)
+        offline = random_system(rng, rng.choice(sizes), requests) if found // 3 % 2 else None
+        if len(game_by_hand(system, system if offline is None else offline, lookahead)) <= 300:
+            found += 1
+            yield system, offline, lookahead

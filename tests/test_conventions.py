@@ -4,11 +4,13 @@ import copy
 import itertools
 import unittest
 
+from hindcost.comparisons import comparisons
 from hindcost.errors import (
     InvalidNumber, InvalidPolicy, InvalidSchedule, InvalidSequence, InvalidSteps, InvalidSystem, InvalidWork,
     UnknownRequest, UnknownState,
 )
 from hindcost.policies import policies, reduced, runs
+from hindcost.ratios import fractions
 from hindcost.schedules import schedules
 from hindcost.systems import systems
 from hindcost.work import forms, functions
@@ -30,6 +32,8 @@ ERRORS = {
     "second policy": (InvalidPolicy, None),
     "memory": (InvalidNumber, "value"),
     "window": (InvalidSequence, None),
+    "ratio": (InvalidNumber, "value"),
+    "second ratio": (InvalidNumber, "value"),
     "size": (InvalidNumber, "value"),
     "steps": (InvalidSteps, None),
     "value": None,
@@ -68,6 +72,21 @@ CALLS = (
     (runs.run_cost, ("system", "policy", "sequence"), (A, MOVE, (0, 1))),
     (reduced.reduced_policy, ("system", "policy"), (A, MOVE)),
     (reduced.different_run, ("system", "policy", "second policy"), (A, MOVE, STAY)),
+    (fractions.is_ratio, ("value",), ((3, 2),)),
+    (fractions.compare_ratios, ("ratio", "second ratio"), ((3, 2), (1, 0))),
+    (comparisons.reachable_pairs, ("system", "policy", "second policy"), (A, MOVE, STAY)),
+    (comparisons.excess_of, ("system", "policy", "second policy"), (A, MOVE, STAY)),
+    (comparisons.excess_certificate, ("system", "policy", "second policy"), (A, STAY, MOVE)),
+    (comparisons.factor_of, ("system", "policy", "second policy"), (A, MOVE, STAY)),
+    (comparisons.factor_certificate, ("system", "policy", "second policy"), (A, MOVE, STAY)),
+    (
+        comparisons.is_excess_certificate, ("system", "policy", "second policy", "value"),
+        (A, STAY, MOVE, (None, ((1,), (1,)), None)),
+    ),
+    (
+        comparisons.is_factor_certificate, ("system", "policy", "second policy", "value"),
+        (A, MOVE, STAY, ((1, 1), (0, 1), ((1,), (0, 1)))),
+    ),
 )
 
 

@@ -115,6 +115,41 @@ INTERFACE = {
             "is_surcharge_certificate": "system, policy, ratio, value, *, offline=None, form=None",
         },
     ),
+    "hindcost.comparisons.comparisons": (
+        {"MAX_PAIRS": 1000},
+        {
+            "reachable_pairs": "system, first, second",
+            "excess_of": "system, first, second",
+            "excess_certificate": "system, first, second",
+            "factor_of": "system, first, second",
+            "factor_certificate": "system, first, second",
+            "is_excess_certificate": "system, first, second, value",
+            "is_factor_certificate": "system, first, second, value",
+        },
+    ),
+    "hindcost.games.games": (
+        {"MAX_GAME": 300},
+        {
+            "game_positions": "system, *, offline=None, lookahead=0",
+            "is_game_position": "system, value, *, offline=None, lookahead=0",
+            "game_moves": "system, position, request, *, offline=None, lookahead=0",
+        },
+    ),
+    "hindcost.games.solver": (
+        {},
+        {
+            "value_of": "system, *, offline=None, lookahead=0",
+            "solve_game": "system, *, offline=None, lookahead=0",
+        },
+    ),
+    "hindcost.games.certificates": (
+        {},
+        {
+            "is_best_policy": "system, ratio, value, *, offline=None, lookahead=0",
+            "is_adversary_table": "system, ratio, value, *, offline=None, lookahead=0",
+            "is_game_solution": "system, value, *, offline=None, lookahead=0",
+        },
+    ),
 }
 
 

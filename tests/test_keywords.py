@@ -8,6 +8,8 @@ from hindcost.errors import (
     InvalidNumber, InvalidOffline, InvalidPolicy, InvalidPosition, InvalidSequence, InvalidSystem, InvalidWork,
     UnknownRequest,
 )
+from hindcost.games import certificates as answers
+from hindcost.games import games, solver
 from hindcost.ratios import certificates, positions, ratios, surcharges
 from tests.helpers import A, MOVE, ODD, T, assert_error
 
@@ -21,10 +23,11 @@ ERRORS = {
     "request": (UnknownRequest, "request"),
     "sequence": (InvalidSequence, None),
     "ratio": (InvalidNumber, "value"),
+    "lookahead": (InvalidNumber, "value"),
 }
 VALID = {
     "system": A, "offline": T, "form": (0, 2), "policy": MOVE, "position": (0, (0, 2), ()), "request": 1,
-    "sequence": (1, 0), "ratio": (2, 1),
+    "sequence": (1, 0), "ratio": (2, 1), "lookahead": 0,
 }
 
 # Each function with its parameters by position, those by keyword, and the parameters in the order of the checks.
@@ -50,7 +53,26 @@ CALLS = (
         surcharges.is_surcharge_certificate, "system policy ratio value", "offline form",
         "system offline form policy ratio",
     ),
+    (games.game_positions, "system", "offline lookahead", "system offline lookahead"),
+    (games.is_game_position, "system value", "offline lookahead", "system offline lookahead"),
+    (
+        games.game_moves, "system position request", "offline lookahead",
+        "system offline lookahead position request",
+    ),
+    (solver.value_of, "system", "offline lookahead", "system offline lookahead"),
+    (solver.solve_game, "system", "offline lookahead", "system offline lookahead"),
+    (answers.is_best_policy, "system ratio value", "offline lookahead", "system offline lookahead ratio"),
+    (answers.is_adversary_table, "system ratio value", "offline lookahead", "system offline lookahead ratio"),
+    (answers.is_game_solution, "system value", "offline lookahead", "system offline lookahead"),
 )
+
+# An adversary table for the value (2, 1) of the system A beside the offline system T.
+TABLE = (
+    ((0, (0, 0), ()), 1, 0, 0), ((0, (0, 1), ()), 1, -1, 0), ((0, (0, 2), ()), 1, -1, 0), ((0, (1, 0), ()), 1, 0, 0),
+    ((0, (2, 0), ()), 1, 0, 0), ((1, (0, 0), ()), 0, 0, 0), ((1, (0, 1), ()), 0, 0, 0), ((1, (0, 2), ()), 0, 0, 0),
+    ((1, (1, 0), ()), 0, -1, 0), ((1, (2, 0), ()), 0, -1, 0),
+)
+BEST = (MOVE, (1, 0, 0, 1, 1, 1, 0, 0))
 
 # For the functions that ask: a value for which they return True, with the other arguments of VALID.
 ACCEPTED = {
@@ -59,6 +81,10 @@ ACCEPTED = {
     "is_trap": ((1, 1), (0, 1)),
     "is_ratio_certificate": ((2, 1), (1, 0, 0, 1, 1, 1, 0, 0), ((1, 1), (0, 1))),
     "is_surcharge_certificate": ((0, 1), (), (1, 0, 0, 1, 1, 1, 0, 0)),
+    "is_game_position": (1, (2, 0), ()),
+    "is_best_policy": BEST,
+    "is_adversary_table": TABLE,
+    "is_game_solution": ((2, 1), BEST, TABLE),
 }
 
 
@@ -69,7 +95,7 @@ def odd_values(parameter, valid):
         values = [odd for odd in values if odd is not None]
     if isinstance(valid, tuple):
         values += [list(valid), valid + (-1,), valid[:-1] + (None,), valid[:-1] + (True,), valid[:-1] + ([],)]
-    return values
+    return values + [3] * (parameter == "lookahead")
 
 
 def arguments_of(call, replaced):
@@ -141,7 +167,7 @@ class TestCalls(unittest.TestCase):
     def test_keywords_have_defaults(self):
         for call in CALLS:
             with self.subTest(function=call[0].__name__):
-                given = {"form": None, "offline": None, "position": (0, (0, 1), ())}
+                given = {"form": None, "offline": None, "lookahead": 0, "position": (0, (0, 1), ())}
                 arguments, keywords = arguments_of(call, given)
                 self.assertEqual(call[0](*arguments), call[0](*arguments, **keywords))
                 with self.assertRaises(TypeError):

@@ -108,6 +108,13 @@ class TestStatements(unittest.TestCase):
                 if isinstance(node, ast.arg):
                     self.assertIsNone(node.annotation, (path, node.lineno))
 
+    def test_nothing_is_nested_in_the_making_of_an_object(self):
+        for path in FILES:
+            for node in ast.walk(tree_of(path)):
+                if isinstance(node, ast.FunctionDef) and node.name == "__init__":
+                    inner = [type(part) for part in ast.walk(node)][1:]
+                    self.assertFalse({ast.Return, ast.Lambda, ast.FunctionDef} & set(inner), path)
+
     def test_raise_creates_its_error(self):
         for path in FILES:
             for node in ast.walk(tree_of(path)):

@@ -10,7 +10,7 @@ from hindcost.policies.reduced import different_run, reduced_policy
 from hindcost.policies.runs import run_schedule
 from tests.helpers import (
     A, EIGHT, MOVE, ODD, ONE, STAY, TWO, assert_error, product_of, random_policy, random_system, random_systems,
-    turning, window_count,
+    renumbered, split_policy, turning, window_count,
 )
 
 
@@ -23,27 +23,6 @@ def chain(states):
 def ring(length):
     """A policy for ONE with a ring of memories that all have state 0."""
     return (0, (0,) * length, tuple(((m + 1) % length,) for m in range(length)), 0)
-
-
-def split_policy(rng, policy):
-    """The same policy with each memory twice: moves lead to either one, and the memories are mixed."""
-    lookahead, states, moves, first = policy
-    count = len(states)
-    order = list(range(2 * count))
-    rng.shuffle(order)
-    place = {old: new for new, old in enumerate(order)}
-    rows = [tuple(place[target + count * rng.randrange(2)] for target in moves[old % count]) for old in order]
-    return (lookahead, tuple(states[old % count] for old in order), tuple(rows), place[first])
-
-
-def renumbered(rng, policy):
-    """The same policy with its memories in another order."""
-    lookahead, states, moves, first = policy
-    order = list(range(len(states)))
-    rng.shuffle(order)
-    place = {old: new for new, old in enumerate(order)}
-    rows = tuple(tuple(place[target] for target in moves[old]) for old in order)
-    return (lookahead, tuple(states[old] for old in order), rows, place[first])
 
 
 def different_memories(policy):

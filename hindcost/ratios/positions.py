@@ -5,7 +5,7 @@ from hindcost.helpers import is_integer_from, is_tuple_of
 from hindcost.policies.policies import check_policy, window_number
 from hindcost.systems.offline import offline_for
 from hindcost.systems.systems import check_request, check_system, fits_request_tuple, fits_sequence
-from hindcost.tracks.tracks import Graph, Track
+from hindcost.tracks.tracks import Track, graph_of_track
 from hindcost.work.forms import advance_form, check_form, fits_form
 from hindcost.work.functions import begin_work
 
@@ -80,7 +80,7 @@ def track_of_positions(system, base, policy, form):
 
 def graph_of_positions(track):
     """Return the graph of the reachable positions."""
-    return Graph(track, MAX_POSITIONS)
+    return graph_of_track(track, MAX_POSITIONS)
 
 
 def serve_window(system, base, policy, memory, form, window):

@@ -74,15 +74,10 @@ class Graph:
     gain. `order` has the numbers of the places in the ascending order of the places.
     """
 
-    def __init__(self, track, limit):
-        starts = track.starts()
-        requests = len(track.system[1])
-        places, rows = explore(
-            starts, lambda place: [track.arrive_at(place, request) for request in range(requests)], limit
-        )
+    def __init__(self, track, start_count, places, rows):
         numbers = {place: number for number, place in enumerate(places)}
         self.track = track
-        self.start_count = len(starts)
+        self.start_count = start_count
         self.places = places
         self.rows = rows
         self.order = [numbers[place] for place in sorted(places)]
@@ -107,3 +102,13 @@ class Graph:
         ways = search_ways(starts, len(rows[0]), lambda place, request: rows[place][request][0], len(rows))
         start, arrivals = way_to(ways, number)
         return self.places[start][2] + arrivals
+
+
+def graph_of_track(track, limit):
+    """Return the graph of all places that the track reaches; raise TooLarge if there are more than the limit."""
+    starts = track.starts()
+    requests = list(range(len(track.system[1])))
+    places, rows = explore(
+        starts, lambda place: [track.arrive_at(place, request) for request in requests], limit
+    )
+    return Graph(track, len(starts), places, rows)

@@ -1,0 +1,1 @@
+"""Comparisons of two policies with one another."""

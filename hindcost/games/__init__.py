@@ -1,0 +1,1 @@
+"""Games between an adversary and a policy, and their values."""
