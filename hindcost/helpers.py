@@ -1,6 +1,6 @@
 """What all modules need: tests of plain values, and breadth-first searches."""
 
-from hindcost.errors import TooLarge
+from hindcost.errors import InvalidNumber, TooLarge
 
 
 def is_integer(value):
@@ -17,6 +17,30 @@ def is_integer_from(value, least, greatest):
 def is_tuple_of(value, size):
     """Return whether the value is a tuple with this many entries."""
     return isinstance(value, tuple) and len(value) == size
+
+
+def are_integers_from(value, least, greatest):
+    """Return whether the value is a tuple of integers from least to greatest."""
+    if not isinstance(value, tuple):
+        return False
+    for number in value:
+        if not is_integer_from(number, least, greatest):
+            return False
+    return True
+
+
+def is_ascending(values):
+    """Return whether each of the values is greater than the one before."""
+    for at in range(1, len(values)):
+        if values[at - 1] >= values[at]:
+            return False
+    return True
+
+
+def check_integer_from(value, least, greatest):
+    """Raise InvalidNumber if the value is not an integer from least to greatest."""
+    if not is_integer_from(value, least, greatest):
+        raise InvalidNumber(value)
 
 
 def search_ways(starts, steps, follow, limit):

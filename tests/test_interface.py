@@ -150,6 +150,37 @@ INTERFACE = {
             "is_game_solution": "system, value, *, offline=None, lookahead=0",
         },
     ),
+    "hindcost.instances.caches": (
+        {"MAX_PAGES": 5},
+        {
+            "cache_states": "pages, capacity",
+            "cache_system": "pages, capacity, *, weights=None",
+            "cache_policy": "pages, capacity, word, *, lookahead=0",
+        },
+    ),
+    "hindcost.instances.lists": (
+        {},
+        {
+            "list_states": "items",
+            "list_system": "items, *, swap=1",
+            "list_policy": "items, word",
+        },
+    ),
+    "hindcost.instances.servers": (
+        {},
+        {
+            "server_states": "last, servers",
+            "server_system": "last, servers",
+            "server_policy": "last, servers, word",
+        },
+    ),
+    "hindcost.instances.devices": (
+        {},
+        {
+            "device_system": "powers, wakes, *, drop=1",
+            "device_policy": "thresholds",
+        },
+    ),
 }
 
 

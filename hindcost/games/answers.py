@@ -2,7 +2,7 @@
 
 from hindcost.games.games import MAX_GAME
 from hindcost.helpers import explore
-from hindcost.policies.policies import windows_up_to
+from hindcost.policies.configurations import policy_of_configurations
 from hindcost.schedules.schedules import best_states, costs_to_go
 from hindcost.tracks.loops import greatest_quotient, rise
 from hindcost.work.forms import advance_form
@@ -20,15 +20,12 @@ def ratio_of_replies(game, replies):
 
 def policy_of_replies(game, replies):
     """Return the policy that moves by the replies; its memories are pairs of a state and a form."""
-    requests = len(game.system[1])
-    every = windows_up_to(requests, game.lookahead + 1)
-    first = (game.system[2], begin_work(game.base))
     # A pair that moves lead to occurs with all pending requests, so there are no more pairs than positions.
-    pairs, edges = explore(
-        [first], lambda pair: [(pair_after(game, replies, pair, window),) for window in every], MAX_GAME
+    return policy_of_configurations(
+        game.lookahead, len(game.system[1]), (game.system[2], begin_work(game.base)),
+        lambda pair, window: pair_after(game, replies, pair, window),
+        lambda pair: pair[0]
     )
-    states = tuple([state for state, form in pairs])
-    return game.lookahead, states, tuple([tuple([edge[0] for edge in row]) for row in edges]), 0
 
 
 def pair_after(game, replies, pair, window):

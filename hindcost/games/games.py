@@ -1,7 +1,7 @@
 """Game positions and moves."""
 
-from hindcost.errors import InvalidNumber, InvalidPosition
-from hindcost.helpers import explore, is_integer_from, is_tuple_of
+from hindcost.errors import InvalidPosition
+from hindcost.helpers import check_integer_from, explore, is_tuple_of
 from hindcost.policies.policies import MAX_LOOKAHEAD, tuples_of_length
 from hindcost.systems.offline import offline_for
 from hindcost.systems.systems import check_request, check_system, fits_request_tuple, fits_state
@@ -36,8 +36,7 @@ def checked_game(system, offline, lookahead):
     """Return the offline system, or raise the error for the first of the values that is not as it must be."""
     check_system(system)
     base = offline_for(system, offline)
-    if not is_integer_from(lookahead, 0, MAX_LOOKAHEAD):
-        raise InvalidNumber(lookahead)
+    check_integer_from(lookahead, 0, MAX_LOOKAHEAD)
     return base
 
 

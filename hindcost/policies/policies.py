@@ -1,8 +1,8 @@
 """Policies and their windows."""
 
-from hindcost.errors import InvalidNumber, InvalidPolicy, InvalidSequence
+from hindcost.errors import InvalidPolicy, InvalidSequence
 from hindcost.systems.systems import check_system, fits_request_tuple, fits_state
-from hindcost.helpers import is_integer_from, is_tuple_of
+from hindcost.helpers import check_integer_from, is_integer_from, is_tuple_of
 
 MAX_LOOKAHEAD = 2
 MAX_MEMORIES = 1000
@@ -12,8 +12,7 @@ MAX_MOVES = 20000
 def windows(system, lookahead):
     """Return the windows for the look-ahead in their order."""
     check_system(system)
-    if not is_integer_from(lookahead, 0, MAX_LOOKAHEAD):
-        raise InvalidNumber(lookahead)
+    check_integer_from(lookahead, 0, MAX_LOOKAHEAD)
     return windows_up_to(len(system[1]), lookahead + 1)
 
 
@@ -28,8 +27,7 @@ def next_memory(system, policy, memory, window):
     check_system(system)
     check_policy(system, policy)
     lookahead, states, moves, _ = policy
-    if not is_integer_from(memory, 0, len(states) - 1):
-        raise InvalidNumber(memory)
+    check_integer_from(memory, 0, len(states) - 1)
     if not fits_request_tuple(system, window) or not 1 <= len(window) <= lookahead + 1:
         raise InvalidSequence("not a window for the look-ahead of the policy")
     return moves[memory][window_number(len(system[1]), window)]

@@ -1,7 +1,7 @@
 """Systems and their sequences."""
 
-from hindcost.errors import InvalidNumber, InvalidSequence, InvalidSteps, InvalidSystem, UnknownRequest, UnknownState
-from hindcost.helpers import is_integer_from, is_tuple_of
+from hindcost.errors import InvalidSequence, InvalidSteps, InvalidSystem, UnknownRequest, UnknownState
+from hindcost.helpers import check_integer_from, is_integer_from, is_tuple_of
 
 MAX_STATES = 10
 MAX_REQUESTS = 8
@@ -64,8 +64,7 @@ def is_sequence(system, value):
 
 def switching_from_steps(size, steps):
     """Return the switching table of the least sums of costs of steps."""
-    if not is_integer_from(size, 2, MAX_STATES):
-        raise InvalidNumber(size)
+    check_integer_from(size, 2, MAX_STATES)
     if not fits_steps(size, steps):
         raise InvalidSteps("not a tuple of steps")
     sums = least_sums(size, steps)

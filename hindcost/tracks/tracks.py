@@ -9,18 +9,19 @@ class Track:
 
     A place is a triple (one, other, pending): what is known of the two sides that are compared, and the requests
     that are known but not yet served. The function `serve` takes one, other and a window, and returns the next one,
-    the next other, and the cost and the gain of serving the first request of the window.
+    the next other, and the cost and the gain of serving the first request of the window. `sides` is the pair of one and
+    other before all requests.
     """
 
-    def __init__(self, system, lookahead, begin, serve):
+    def __init__(self, system, lookahead, sides, serve):
         self.system = system
         self.lookahead = lookahead
-        self.begin = begin
+        self.sides = sides
         self.serve = serve
 
     def place_before(self, pending):
         """Return the place in which these requests are known and none is served."""
-        one, other = self.begin
+        one, other = self.sides
         return one, other, pending
 
     def starts(self):

@@ -1,0 +1,1 @@
+"""Systems and policies for caches, lists, servers, devices and files."""
