@@ -1,13 +1,19 @@
-"""[0.3] to [0.5], [0.11] for the functions that make systems and policies: their errors in order, equal results."""
+"""[0.3] to [0.5], [0.11] for the functions that make systems, policies and texts: errors in order, equal results."""
 
 import copy
 import inspect
 import itertools
 import unittest
 
-from hindcost.errors import InvalidInstance, InvalidNumber
-from hindcost.instances import caches, devices, lists, servers
-from tests.helpers import ODD, assert_error
+from hindcost.errors import (
+    InvalidInstance, InvalidNumber, InvalidOperation, InvalidPolicy, InvalidSystem, ParseError, UnknownRequest,
+    UnknownState,
+)
+from hindcost.instances import caches, devices, lists, migration, servers
+from hindcost.instances.caches import cache_system
+from hindcost.operations import operations
+from hindcost.text import formats
+from tests.helpers import A, MOVE, ODD, STAY, T, assert_error
 
 # The error of each parameter, with the attribute that keeps the value.
 ERRORS = {
@@ -24,6 +30,26 @@ ERRORS = {
     "wakes": (InvalidInstance, None),
     "drop": (InvalidNumber, "value"),
     "thresholds": (InvalidInstance, None),
+    "distances": (InvalidInstance, None),
+    "size": (InvalidNumber, "value"),
+    "nodes": (InvalidNumber, "value"),
+    "patience": (InvalidNumber, "value"),
+    "system": (InvalidSystem, None),
+    "factor": (InvalidNumber, "value"),
+    "request": (UnknownRequest, "request"),
+    "costs": (InvalidOperation, None),
+    "state": (UnknownState, "state"),
+    "states": (InvalidOperation, None),
+    "first": (InvalidSystem, None),
+    "second": (InvalidSystem, None),
+    "first_system": (InvalidSystem, None),
+    "first_policy": (InvalidPolicy, None),
+    "second_system": (InvalidSystem, None),
+    "second_policy": (InvalidPolicy, None),
+    "policy": (InvalidPolicy, None),
+    "numbers": (InvalidOperation, None),
+    "text": (ParseError, None),
+    "ratio": (InvalidNumber, "value"),
 }
 
 # Each function with valid arguments in the order of the checks.
@@ -39,7 +65,30 @@ CALLS = (
     (servers.server_policy, {"last": 2, "servers": 2, "word": "double"}),
     (devices.device_system, {"powers": (9, 4, 1), "wakes": (3, 5), "drop": 2}),
     (devices.device_policy, {"thresholds": (2, 7)}),
+    (migration.migration_system, {"distances": ((0, 3), (2, 0)), "size": 7}),
+    (migration.migration_policy, {"nodes": 3, "patience": 4}),
+    (operations.scaled, {"system": A, "factor": 3}),
+    (operations.without_request, {"system": A, "request": 1}),
+    (operations.with_request, {"system": A, "costs": (3, None)}),
+    (operations.with_start, {"system": A, "state": 1}),
+    (operations.restricted, {"system": cache_system(3, 2), "states": (0, 2)}),
+    (operations.product, {"first": A, "second": T}),
+    (
+        operations.side_by_side,
+        {"first_system": A, "first_policy": MOVE, "second_system": T, "second_policy": STAY},
+    ),
+    (formats.format_numbers, {"numbers": (0, 12, 7)}),
+    (formats.parse_numbers, {"text": "0 12 7"}),
+    (formats.format_system, {"system": A}),
+    (formats.parse_system, {"text": formats.format_system(A)}),
+    (formats.format_policy, {"system": A, "policy": MOVE}),
+    (formats.parse_policy, {"system": A, "text": formats.format_policy(A, MOVE)}),
+    (formats.format_ratio, {"ratio": (5, 2)}),
+    (formats.parse_ratio, {"text": "5/2"}),
 )
+
+# Odd values that are right for these parameters.
+RIGHT = {"weights": (None,), "numbers": ((), (10**50 - 1,)), "text": ("0",)}
 
 
 def call(function, given):
@@ -50,13 +99,19 @@ def call(function, given):
     return function(*by_position, **{name: given[name] for name in given if name in by_keyword})
 
 
+def same(first, second):
+    return type(first) is type(second) and first == second
+
+
 def invalid_values(name, valid):
     """Odd values for the parameter, also such that are like the valid one."""
-    values = [odd for odd in ODD if not (name == "weights" and odd is None)]
+    values = [odd for odd in ODD if not any(same(odd, right) for right in RIGHT.get(name, ()))]
     if isinstance(valid, tuple):
-        values += [list(valid), valid + (-1,), valid[:-1] + (None,), valid[:-1] + (True,), valid[:-1] + ([],), (valid,)]
+        values += [list(valid), valid + (-1,), valid[:-1] + (True,), valid[:-1] + ([],), (valid,)]
+        if name != "costs":
+            values.append(valid[:-1] + (None,))
     elif isinstance(valid, str):
-        values += [valid + " ", valid.upper(), (valid,), [valid], {valid: 1}, 0, 1]
+        values += [valid + " ", " " + valid, (valid,), [valid], {valid: 1}, 0, 1]
     else:
         values += [(valid,), [valid], str(valid), {valid: valid}, 0 if valid > 1 else -1, valid + 1000]
     return values
@@ -87,7 +142,7 @@ class TestErrors(unittest.TestCase):
         for function, valid in CALLS:
             for count in range(2, len(valid) + 1):
                 for names in itertools.combinations(valid, count):
-                    for odd in ([0], "0", 10**49, -7, True, {}, (None,), ()):
+                    for odd in ([0], "?", 10**49, -7, True, {}, (None,), (0, -1)):
                         self.check(function, valid, dict.fromkeys(names, odd))
 
     def test_all_arguments_invalid_with_different_values(self):
@@ -114,7 +169,7 @@ class TestCalls(unittest.TestCase):
             for part in value:
                 self.assert_plain(part)
         else:
-            self.assertIn(type(value), (int, type(None)))
+            self.assertIn(type(value), (int, str, type(None)))
 
 
 if __name__ == "__main__":

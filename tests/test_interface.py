@@ -181,6 +181,76 @@ INTERFACE = {
             "device_policy": "thresholds",
         },
     ),
+    "hindcost.instances.migration": (
+        {},
+        {
+            "migration_system": "distances, size",
+            "migration_policy": "nodes, patience",
+        },
+    ),
+    "hindcost.operations.operations": (
+        {},
+        {
+            "scaled": "system, factor",
+            "without_request": "system, request",
+            "with_request": "system, costs",
+            "with_start": "system, state",
+            "restricted": "system, states",
+            "product": "first, second",
+            "side_by_side": "first_system, first_policy, second_system, second_policy",
+        },
+    ),
+    "hindcost.service.service": ({"MAX_ARRIVALS": 400}, {}),
+    "hindcost.text.formats": (
+        {},
+        {
+            "format_numbers": "numbers",
+            "parse_numbers": "text",
+            "format_system": "system",
+            "parse_system": "text",
+            "format_policy": "system, policy",
+            "parse_policy": "system, text",
+            "format_ratio": "ratio",
+            "parse_ratio": "text",
+        },
+    ),
+}
+
+# Each class with its parameters and its methods; each method stands in the class itself.
+CLASSES = {
+    ("hindcost.service.service", "Service"): (
+        "system, policy, *, offline=None",
+        {
+            "__len__": "self",
+            "__str__": "self",
+            "__eq__": "self, other",
+            "arrive": "self, request",
+            "finish": "self",
+            "replace": "self, policy",
+            "begin": "self, system, policy, *, offline=None",
+            "undo": "self, *, count=1",
+            "cost": "self",
+            "optimum": "self",
+            "current_ratio": "self",
+            "guarantee": "self",
+            "slack": "self",
+            "schedule": "self",
+            "best_schedule": "self",
+            "pending": "self",
+            "memory": "self",
+            "current_state": "self",
+            "log": "self",
+        },
+    ),
+    ("hindcost.text.shell", "Shell"): (
+        "",
+        {
+            "__len__": "self",
+            "run": "self, line",
+            "run_all": "self, lines",
+            "log": "self",
+        },
+    ),
 }
 
 
@@ -207,6 +277,20 @@ class TestInterface(unittest.TestCase):
             for name, parameters in functions.items():
                 with self.subTest(module=path, name=name):
                     self.assertEqual(str(inspect.signature(getattr(module, name))), f"({parameters})")
+
+    def test_classes(self):
+        for (path, name), (parameters, methods) in CLASSES.items():
+            found = getattr(importlib.import_module(path), name)
+            self.assertTrue(inspect.isclass(found))
+            self.assertEqual((found.__module__, found.__bases__), (path, (object,)))
+            self.assertEqual(str(inspect.signature(found)), f"({parameters})")
+            for method, expected in methods.items():
+                with self.subTest(name=name, method=method):
+                    self.assertEqual(str(inspect.signature(vars(found)[method])), f"({expected})")
+            self.assertEqual(
+                {method for method in vars(found) if not method.startswith("_")},
+                {method for method in methods if not method.startswith("_")},
+            )
 
 
 if __name__ == "__main__":

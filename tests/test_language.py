@@ -13,7 +13,7 @@ FILES = sorted(path for path in ROOT.rglob("*.py"))
 NODES = (
     "Module Expr FunctionDef ClassDef arguments arg Return Assign AugAssign If While For Raise Break Continue Pass "
     "ImportFrom alias Name Load Store Constant Tuple List Dict Call keyword Attribute Subscript Slice Lambda "
-    "BinOp Add Sub Mult FloorDiv Mod UnaryOp USub Not BoolOp And Or Compare Eq NotEq Lt LtE Gt GtE Is IsNot In NotIn "
+    "Delete Del JoinedStr FormattedValue BinOp Add Sub Mult FloorDiv Mod Pow UnaryOp USub Not BoolOp And Or Compare Eq NotEq Lt LtE Gt GtE Is IsNot In NotIn "
     "IfExp ListComp DictComp comprehension Try ExceptHandler"
 ).split()
 BUILTINS = (
@@ -96,7 +96,18 @@ class TestStatements(unittest.TestCase):
                 kinds = (ast.Expr, ast.ImportFrom, ast.FunctionDef, ast.ClassDef, ast.Assign)
                 self.assertIsInstance(node, kinds, (path, node.lineno))
                 if isinstance(node, ast.Assign):
-                    self.assertIsInstance(ast.literal_eval(node.value), (int, str, tuple, list, dict))
+                    self.check_plain_value(path, node)
+
+    def check_plain_value(self, path, node):
+        """Integers, strings, None, and tuples, or one list or dict, of these and of functions that stand above."""
+        above = {row.name for row in tree_of(path).body if isinstance(row, ast.FunctionDef) and row.lineno < node.lineno}
+        for part in ast.walk(node.value):
+            if isinstance(part, ast.Name):
+                self.assertIn(part.id, above, (path, node.lineno))
+            else:
+                kinds = (ast.Constant, ast.Tuple, ast.List, ast.Dict, ast.Load)
+                self.assertIsInstance(part, kinds, (path, node.lineno))
+            self.assertTrue(part is node.value or not isinstance(part, (ast.List, ast.Dict)), (path, node.lineno))
 
     def test_no_decorators_and_no_annotations(self):
         for path in FILES:
@@ -203,7 +214,35 @@ class TestNames(unittest.TestCase):
     def test_exponents_are_literal(self):
         for path in FILES:
             for node in ast.walk(tree_of(path)):
-                self.assertFalse(isinstance(node, ast.Pow), path)
+                if isinstance(node, ast.BinOp) and isinstance(node.op, ast.Pow):
+                    self.assertIn(getattr(node.right, "value", None), list(range(65)), (path, node.lineno))
+
+    def test_texts_have_plain_signs_and_formats(self):
+        for path in FILES:
+            for node in ast.walk(tree_of(path)):
+                if isinstance(node, ast.FormattedValue):
+                    self.assertIsNone(node.format_spec, (path, node.lineno))
+                    self.assertEqual(node.conversion, -1, (path, node.lineno))
+                if isinstance(node, ast.Constant) and isinstance(node.value, str):
+                    self.assertNotIn("%", node.value, (path, node.lineno))
+
+    def test_lengths_and_texts_of_objects(self):
+        # They only return something, so that nothing can be changed by them.
+        for path in FILES:
+            for node in ast.walk(tree_of(path)):
+                if isinstance(node, ast.FunctionDef) and node.name in ("__len__", "__str__"):
+                    self.assertEqual([type(row) for row in node.body], [ast.Return], (path, node.lineno))
+
+    def test_no_name_is_a_method_and_an_attribute(self):
+        methods = set()
+        attributes = set()
+        for path in FILES:
+            for node in ast.walk(tree_of(path)):
+                if isinstance(node, ast.ClassDef):
+                    methods |= {row.name for row in node.body if isinstance(row, ast.FunctionDef)}
+                if isinstance(node, ast.Attribute) and isinstance(node.ctx, ast.Store):
+                    attributes.add(node.attr)
+        self.assertEqual(methods & attributes, set())
 
     def test_ranges_beside_a_key_are_lists(self):
         for path in FILES:

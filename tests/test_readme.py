@@ -21,7 +21,7 @@ class TestReadme(unittest.TestCase):
                     checked += 1
                 elif not line.startswith((" ", "try", "except")):
                     exec(line, names)
-        self.assertEqual(checked, 42)
+        self.assertEqual(checked, 67)
 
 
 if __name__ == "__main__":

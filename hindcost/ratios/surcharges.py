@@ -20,9 +20,7 @@ def surplus_of(system, policy, ratio, sequence, *, offline=None, form=None):
 
 def surcharge_of(system, policy, ratio, *, offline=None, form=None):
     """Return the surcharge for the fraction."""
-    graph = checked_graph(system, policy, ratio, offline, form)
-    bounds, _ = allowances_for(graph, ratio)
-    return make_fraction(greatest_at_start(graph, ratio, bounds), ratio[1])
+    return surcharge_at(checked_graph(system, policy, ratio, offline, form), ratio)
 
 
 def surcharge_certificate(system, policy, ratio, *, offline=None, form=None):
@@ -52,6 +50,12 @@ def checked_graph(system, policy, ratio, offline, form):
     track = checked_track(system, policy, offline, form)
     check_fraction(ratio)
     return graph_of_positions(track)
+
+
+def surcharge_at(graph, ratio):
+    """Return the surcharge for the fraction as a fraction; raise BelowRatio if there is none."""
+    bounds, _ = allowances_for(graph, ratio)
+    return make_fraction(greatest_at_start(graph, ratio, bounds), ratio[1])
 
 
 def allowances_for(graph, ratio):

@@ -33,13 +33,7 @@ def best_schedule(system, sequence):
     """Return the smallest optimal schedule for the sequence."""
     check_system(system)
     check_sequence(system, sequence)
-    rests = costs_to_go(system, sequence)
-    state = system[2]
-    schedule = []
-    for at in range(len(sequence)):
-        state = best_states(system, state, sequence[at], rests[at + 1])[0]
-        schedule.append(state)
-    return tuple(schedule)
+    return smallest_best_schedule(system, sequence)
 
 
 def best_schedule_count(system, sequence):
@@ -89,6 +83,17 @@ def optima_of_prefixes(system, sequence):
         work = advance_work(system, work, request)
         optima.append(min(work))
     return tuple(optima)
+
+
+def smallest_best_schedule(system, sequence):
+    """Return the smallest optimal schedule for the sequence."""
+    rests = costs_to_go(system, sequence)
+    state = system[2]
+    schedule = []
+    for at in range(len(sequence)):
+        state = best_states(system, state, sequence[at], rests[at + 1])[0]
+        schedule.append(state)
+    return tuple(schedule)
 
 
 def costs_to_go(system, sequence):

@@ -1,0 +1,1 @@
+"""Operations that make new systems and policies from others."""

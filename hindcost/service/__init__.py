@@ -1,0 +1,1 @@
+"""A service that runs policies on requests as they arrive."""
