@@ -103,8 +103,8 @@ class TestPolicies(unittest.TestCase):
 class TestErrors(unittest.TestCase):
     def test_powers(self):
         wrong = [
-            (3,), (5, 4, 3, 2, 1), (1, 3), (3, 3), (3, 1, 1), (3, 1, 2), (101, 1), (3, -1), [3, 1], (3, None), (3, False),
-            (True, 0), ("3", "1"), ((3,), (1,)), (10**49, 1), (3, 1, None),
+            (3,), (5, 4, 3, 2, 1), (1, 3), (3, 3), (3, 1, 1), (3, 1, 2), (101, 1), (3, -1), [3, 1], (3, None),
+            (3, False), (True, 0), ("3", "1"), ((3,), (1,)), (10**49, 1), (3, 1, None),
         ]
         for powers in wrong + list(ODD):
             for wakes in ((4,), (0,), None, (4, 4)):

@@ -101,7 +101,8 @@ class TestNumbers(TextTest):
     def test_texts_read_back(self):
         rng = random.Random(152)
         values = [(), (0,), (FIFTY,), (10**49,), (0, 0, 0), (1, FIFTY, 0, 10), tuple(range(100)), (7,) * 1000]
-        values += [tuple(rng.randrange(10 ** rng.randrange(1, 50)) for _ in range(rng.randrange(9))) for _ in range(200)]
+        for _ in range(200):
+            values.append(tuple(rng.randrange(10 ** rng.randrange(1, 50)) for _ in range(rng.randrange(9))))
         texts = set()
         for value in values:
             text = format_numbers(value)
@@ -121,7 +122,8 @@ class TestNumbers(TextTest):
             assert_error(self, ParseError, None, parse_numbers, text)
 
     def test_values_that_are_not_numbers(self):
-        for odd in ODD + ([0], (0, -1), (-1,), (True,), (0, None), (0, "1"), ((0,),), 0, 12, "0 12", A, [1, 2], (1, [2])):
+        more = ([0], (0, -1), (-1,), (True,), (0, None), (0, "1"), ((0,),), 0, 12, "0 12", A, [1, 2], (1, [2]))
+        for odd in ODD + more:
             if odd == () and isinstance(odd, tuple):
                 continue
             if isinstance(odd, tuple) and odd == (FIFTY,):
@@ -139,8 +141,9 @@ class TestNumbers(TextTest):
 
     def test_texts_that_are_refused(self):
         for text in (
-            "", " ", "  ", "0 ", " 0", "0  1", "00", "01", "0 01", "+1", "-1", "1-", "- -", "- 1", "1 -", "--", "1,2", "1, 2",
-            "1.0", ".", "0 .", "1_0", "0x1", "1e3", "one", "None", "()", "(0,)", "0\n", "\n0", "0\t1", "1/2", "inf",
+            "", " ", "  ", "0 ", " 0", "0  1", "00", "01", "0 01", "+1", "-1", "1-", "- -", "- 1", "1 -", "--", "1,2",
+            "1, 2", "1.0", ".", "0 .", "1_0", "0x1", "1e3", "one", "None", "()", "(0,)", "0\n",
+            "\n0", "0\t1", "1/2", "inf",
         ):
             assert_error(self, ParseError, None, parse_numbers, text)
         self.check_other_values(parse_numbers)
@@ -184,7 +187,8 @@ class TestSystems(TextTest):
             "requests 0 0; switch 0 1, 1 0; start 0", "switch 0 1, 1 0; start 0; requests 0 0",
             "switch 0 1, 1 0; requests 0 0; start 0; start 0", "switch 0 1,1 0; requests 0 0; start 0",
             "switch 0 1, 1 0;requests 0 0; start 0", "switch  0 1, 1 0; requests 0 0; start 0",
-            "switch 0 1, 1 0; requests -; start 0", "switch -; requests 0 0; start 0", "switch 0 1; requests 0; start 0",
+            "switch 0 1, 1 0; requests -; start 0", "switch -; requests 0 0; start 0",
+            "switch 0 1; requests 0; start 0",
             "switch 0 1, 1 0; requests . .; start 0", "switch 0 ., 1 0; requests 0 0; start 0",
             "switch 0 1, 1 0; requests 0 0; start 2", "switch 0 1, 1 0; requests 0 0; start .",
             "switch 0 1, 1 0; requests 0 0; start 0 0", "switch 0 1, 1 0; requests 0 0; start -",
@@ -244,7 +248,8 @@ class TestPolicies(TextTest):
 
     def test_texts_that_are_refused(self):
         for text in (
-            "", "lookahead", "lookahead 0", "lookahead 0; states 0; moves 0 0", "lookahead 0; states 0; moves 0 0; first",
+            "", "lookahead", "lookahead 0", "lookahead 0; states 0; moves 0 0",
+            "lookahead 0; states 0; moves 0 0; first",
             "lookahead 0; states 0; moves 0 0; first 0;", "lookahead 0; states 0; moves 0 0; first 0; ",
             "states 0; lookahead 0; moves 0 0; first 0", "lookahead 0; states 0; first 0; moves 0 0",
             "lookahead 3; states 0; moves 0 0; first 0", "lookahead 1; states 0; moves 0 0; first 0",
@@ -300,15 +305,17 @@ class TestRatios(TextTest):
 
     def test_texts_that_are_refused(self):
         for text in (
-            "", "1", "1/", "/1", "/", "1/0", "0/0", "2/4", "0/2", "1 / 2", "1/ 2", " 1/2", "1/2 ", "1//2", "1/2/3", "01/2",
-            "1/02", "+1/2", "-1/2", "1/-2", "Inf", "INF", "infinity", " inf", "inf ", "1:2", "0.5", "(1, 2)", "none", "-",
+            "", "1", "1/", "/1", "/", "1/0", "0/0", "2/4", "0/2", "1 / 2", "1/ 2", " 1/2", "1/2 ", "1//2", "1/2/3",
+            "01/2", "1/02", "+1/2", "-1/2", "1/-2", "Inf", "INF", "infinity", " inf", "inf ", "1:2", "0.5", "(1, 2)",
+            "none", "-",
         ):
             self.assertIsNone(ratio_by_hand(text))
             assert_error(self, ParseError, None, parse_ratio, text)
         self.check_other_values(parse_ratio)
 
     def test_values_that_are_not_ratios(self):
-        for odd in ODD + ((2, 4), (0, 0), (0, 2), (2, 0), (1, -1), (-1, 1), [1, 2], (1,), (1, 2, 3), (True, 2), "1/2", 1):
+        more = ((2, 4), (0, 0), (0, 2), (2, 0), (1, -1), (-1, 1), [1, 2], (1,), (1, 2, 3), (True, 2), "1/2", 1)
+        for odd in ODD + more:
             assert_error(self, InvalidNumber, ("value", odd), format_ratio, odd)
 
 

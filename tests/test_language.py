@@ -13,7 +13,8 @@ FILES = sorted(path for path in ROOT.rglob("*.py"))
 NODES = (
     "Module Expr FunctionDef ClassDef arguments arg Return Assign AugAssign If While For Raise Break Continue Pass "
     "ImportFrom alias Name Load Store Constant Tuple List Dict Call keyword Attribute Subscript Slice Lambda "
-    "Delete Del JoinedStr FormattedValue BinOp Add Sub Mult FloorDiv Mod Pow UnaryOp USub Not BoolOp And Or Compare Eq NotEq Lt LtE Gt GtE Is IsNot In NotIn "
+    "Delete Del JoinedStr FormattedValue BinOp Add Sub Mult FloorDiv Mod Pow UnaryOp USub Not BoolOp And Or Compare "
+    "Eq NotEq Lt LtE Gt GtE Is IsNot In NotIn "
     "IfExp ListComp DictComp comprehension Try ExceptHandler"
 ).split()
 BUILTINS = (
@@ -100,7 +101,8 @@ class TestStatements(unittest.TestCase):
 
     def check_plain_value(self, path, node):
         """Integers, strings, None, and tuples, or one list or dict, of these and of functions that stand above."""
-        above = {row.name for row in tree_of(path).body if isinstance(row, ast.FunctionDef) and row.lineno < node.lineno}
+        functions = [row for row in tree_of(path).body if isinstance(row, ast.FunctionDef)]
+        above = {row.name for row in functions if row.lineno < node.lineno}
         for part in ast.walk(node.value):
             if isinstance(part, ast.Name):
                 self.assertIn(part.id, above, (path, node.lineno))

@@ -104,7 +104,7 @@ class TestPolicies(unittest.TestCase):
             self.assertEqual(run_cost(system, list_policy(3, "transpose"), (2, 2)), swap + 2 + swap + 1)
             self.assertEqual(run_cost(system, list_policy(3, "stay"), (2, 2)), 6)
             self.assertEqual(run_cost(system, list_policy(3, "twice"), (2, 2)), 3 + 2 * swap + 1)
-            self.assertEqual(run_cost(system, list_policy(3, "twice"), (2, 2, 1, 1)), 3 + 2 * swap + 1 + 3 + 2 * swap + 1)
+            self.assertEqual(run_cost(system, list_policy(3, "twice"), (2, 2, 1, 1)), 2 * (3 + 2 * swap + 1))
 
 
 class TestErrors(unittest.TestCase):

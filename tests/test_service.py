@@ -700,8 +700,8 @@ class TestEquality(unittest.TestCase):
         self.assertEqual(Service(T, MOVE), Service(T, MOVE, offline=None))
         self.assertEqual(Service(A, MOVE, offline=T), Service(A, MOVE, offline=copy.deepcopy(T)))
         different = [
-            Service(T, MOVE), Service(A, MOVE), Service(T, STAY), Service(T, MOVE, offline=T), Service(A, MOVE, offline=T),
-            Service(T, MOVE, offline=A), Service(T, AHEAD),
+            Service(T, MOVE), Service(A, MOVE), Service(T, STAY), Service(T, MOVE, offline=T),
+            Service(A, MOVE, offline=T), Service(T, MOVE, offline=A), Service(T, AHEAD),
         ]
         for at, one in enumerate(different):
             for other_at, other in enumerate(different):
@@ -712,7 +712,8 @@ class TestEquality(unittest.TestCase):
         logs = [
             (), (("finish",),), (("arrive", 1),), (("arrive", 0),), (("arrive", 1), ("arrive", 1)),
             (("arrive", 1), ("finish",)), (("replace", MOVE),), (("replace", STAY),), (("begin", A, MOVE, None),),
-            (("begin", A, MOVE, A),), (("begin", A, MOVE, T),), (("begin", T, MOVE, None),), (("begin", A, STAY, None),),
+            (("begin", A, MOVE, A),), (("begin", A, MOVE, T),), (("begin", T, MOVE, None),),
+            (("begin", A, STAY, None),),
         ]
         for at, one in enumerate(logs):
             for other_at, other in enumerate(logs):

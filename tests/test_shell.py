@@ -183,7 +183,8 @@ class TestCommands(ShellTest):
         shell = shell_after(SYSTEM_T)
         for lookahead in (0, 1, 2):
             self.assertEqual(shell.run(f"value {lookahead}"), format_ratio(value_of(T, lookahead=lookahead)))
-        self.assertEqual(shell_after(SYSTEM_A, "offline " + format_system((A[0], ((0, 0), (0, 0)), 0))).run("value 0"), "inf")
+        free = "offline " + format_system((A[0], ((0, 0), (0, 0)), 0))
+        self.assertEqual(shell_after(SYSTEM_A, free).run("value 0"), "inf")
 
     def test_surcharges(self):
         shell = shell_after(SYSTEM_A, POLICY, OFFLINE_T)
@@ -194,7 +195,8 @@ class TestCommands(ShellTest):
     def test_service(self):
         rng = random.Random(161)
         slacks = set()
-        for lines, offline in (((), None), ((OFFLINE_T,), T), (("offline " + format_system(list_system(2)),), list_system(2))):
+        own = "offline " + format_system(list_system(2))
+        for lines, offline in (((), None), ((OFFLINE_T,), T), ((own,), list_system(2))):
             shell = shell_after("list 2", "use front", *lines, "start")
             service = Service(list_system(2), list_policy(2, "front"), offline=offline)
             for _ in range(80):
@@ -216,7 +218,8 @@ class TestCommands(ShellTest):
 
     def test_look_ahead_in_a_service(self):
         shell = shell_after(SYSTEM_A, "policy " + format_policy(A, turning(1, 2, 2)), "start")
-        self.assertEqual(shell.run_all(("arrive 1", "arrive 0", "arrive 1", "finish", "finish")), ("0", "0", "1", "2", "0"))
+        found = shell.run_all(("arrive 1", "arrive 0", "arrive 1", "finish", "finish"))
+        self.assertEqual(found, ("0", "0", "1", "2", "0"))
         self.assertEqual(shell.run("slack"), "none")
         self.assertEqual(shell.run("status"), "service: 3 served, 0 pending, cost 4, optimum 3")
         assert_error(self, InvalidOperation, None, shell.run, "arrive 0")
@@ -243,9 +246,8 @@ class TestCommands(ShellTest):
             self.assertEqual(shell.run("use transpose"), "ok")
         self.assertEqual(told(full + ("offline none",))[3], "4/3")
         # A system of its own is no instance, even if it is equal to one.
-        assert_error(
-            self, InvalidCommand, None, shell_after("list 2", "system " + format_system(list_system(2))).run, "use front"
-        )
+        shell = shell_after("list 2", "system " + format_system(list_system(2)))
+        assert_error(self, InvalidCommand, None, shell.run, "use front")
 
     def test_an_instance_stays_one(self):
         for line in (OFFLINE_T, "offline none", "policy " + format_policy(list_system(2), STAY), "use stay"):
@@ -278,8 +280,9 @@ class TestWords(ShellTest):
     def test_lines_that_are_no_commands(self):
         for state in STATES.values():
             for line in (
-                "", " ", "  ", "Ratio", "RATIO", " ratio", "ratio\n", "ratios", "status,", "help", "exit", "-", "0", "ok",
-                "replace", "begin", "pending", "cach 3 2", "cache3 2", "cache\t3 2", "Cache 3 2", "system=", "none",
+                "", " ", "  ", "Ratio", "RATIO", " ratio", "ratio\n", "ratios", "status,", "help", "exit", "-", "0",
+                "ok", "replace", "begin", "pending", "cach 3 2", "cache3 2", "cache\t3 2", "Cache 3 2",
+                "system=", "none",
             ):
                 shell = shell_after(*state)
                 assert_error(self, InvalidCommand, None, shell.run, line)
@@ -315,7 +318,8 @@ class TestTexts(ShellTest):
 
     def test_numbers(self):
         wrong = (
-            "", "-", "x", "01", "00", "+1", "-1", "1.0", "1_0", "0x1", "2,", ".", "inf", "1/2", "None", "1" * 51, "\u0662",
+            "", "-", "x", "01", "00", "+1", "-1", "1.0", "1_0", "0x1", "2,", ".", "inf", "1/2", "None", "1" * 51,
+            "\u0662",
         )
         for word in ("list", "value", "arrive", "undo"):
             for text in wrong:
@@ -330,7 +334,9 @@ class TestTexts(ShellTest):
 
     def test_sequences(self):
         for word in ("optimum", "best", "cost"):
-            for text in ("", " ", "0 ", " 0", "0  1", "x", "0 x", "- -", "- 0", "0 -", "01", "0,1", "0 " + "1" * 51, "0 +1"):
+            for text in (
+                "", " ", "0 ", " 0", "0  1", "x", "0 x", "- -", "- 0", "0 -", "01", "0,1", "0 " + "1" * 51, "0 +1",
+            ):
                 self.check_refused(self.FULL, f"{word} {text}", ParseError)
 
     def test_empty_words(self):
@@ -343,8 +349,8 @@ class TestTexts(ShellTest):
     def test_systems(self):
         text = format_system(T)
         for wrong in (
-            "", " ", "none", text + " ", " " + text, text.replace("; ", ";"), text.replace(", ", "  "), text + "; start 0",
-            text[:-1] + "2", text.replace("2", "0"), "switch 0 1, 1 0",
+            "", " ", "none", text + " ", " " + text, text.replace("; ", ";"), text.replace(", ", "  "),
+            text + "; start 0", text[:-1] + "2", text.replace("2", "0"), "switch 0 1, 1 0",
         ):
             self.check_refused(self.FULL, f"system {wrong}", ParseError)
             if wrong != "none":
@@ -459,7 +465,9 @@ class TestRunAll(ShellTest):
         assert_error(self, UnknownRequest, ("request", 2), shell.run_all, lines)
         self.assertEqual((len(shell), shell.log()), (4, lines[:4]))
         self.assertEqual(shell.run("status"), "service: 1 served, 0 pending, cost 1, optimum 1")
-        for wrong, error in ((None, InvalidCommand), ("help", InvalidCommand), ("cost x", ParseError), (0, InvalidCommand)):
+        for wrong, error in (
+            (None, InvalidCommand), ("help", InvalidCommand), ("cost x", ParseError), (0, InvalidCommand),
+        ):
             shell = Shell()
             assert_error(self, error, None, shell.run_all, (SYSTEM_A, POLICY, wrong, "list 2"))
             self.assertEqual(shell.log(), (SYSTEM_A, POLICY))
